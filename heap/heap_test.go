@@ -203,3 +203,17 @@ func TestManySlots(t *testing.T) {
 		k.hasHeld(t, words...)
 	}
 }
+
+// What copies blocks between heaps keeps their handles by this.
+func TestBinariesAreThoseThatWereHandedIn(t *testing.T) {
+	b, a := bins(t, 4, 20), word.NewAtoms()
+	one, two, other := sized(t, 64, 64, a, b), sized(t, 64, 64, a, b), fresh(t)
+	one.stores(t, bin("abc"))
+	if one.Binaries() != b || two.Binaries() != b || other.Binaries() == b {
+		t.Error("other binaries")
+	}
+	one.Drop()
+	if one.Binaries() != b {
+		t.Error("they are gone behind Drop")
+	}
+}
